@@ -1,0 +1,1 @@
+"""Sevenball: spheres of fraction points cut and turned."""

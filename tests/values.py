@@ -1,0 +1,43 @@
+"""Values that are passed where something else is wanted, and a test case that knows errors."""
+
+import time
+import unittest
+
+from sevenball.papers import Denial
+from sevenball.words import Word
+
+HUGE = 10 ** 399 + 7
+
+
+def some_function():
+    return 0
+
+
+NOT_STRINGS = [
+    None, True, False, 0, 7, -1, HUGE, (), ("A", "B"), [], ["A"], {}, {"A": 1}, [[["A"]]],
+    some_function, len, Word, Word("A"), Denial(),
+]
+NOT_INTEGERS = [
+    None, True, False, "", "1", (), (1,), [], [1], {}, {1: 1}, [[(1,)]],
+    some_function, len, Word, Word(), Denial(),
+]
+NOT_WORDS = [
+    None, True, 0, 1, HUGE, "", "A", "-", (), ("A",), ["A"], {"A": "A"},
+    some_function, Word, Denial(),
+]
+
+
+class Case(unittest.TestCase):
+    def refuses(self, error, call, *values, **named):
+        """The call raises an error of just this class with just these fields."""
+        with self.assertRaises(type(error)) as caught:
+            call(*values, **named)
+        self.assertIs(type(caught.exception), type(error))
+        self.assertEqual(vars(caught.exception), vars(error))
+
+    def comes_soon(self, call, seconds=15):
+        """What the call returns, which must not take long."""
+        before = time.perf_counter()
+        answer = call()
+        self.assertLess(time.perf_counter() - before, seconds)
+        return answer
