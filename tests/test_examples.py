@@ -7,8 +7,8 @@ import unittest
 from sevenball.errors import BallError
 
 FOLDER = pathlib.Path(__file__).parent / "examples"
-MODULES = ("errors", "checks", "papers", "words")
-EXAMPLES = ("checks", "words")
+MODULES = ("errors", "checks", "papers", "words", "points", "shells", "quarters", "turns")
+EXAMPLES = ("checks", "words", "points", "shells", "quarters", "turns")
 
 
 def all_names():
@@ -56,7 +56,7 @@ class Examples(unittest.TestCase):
                 with self.subTest(module=module, line=line):
                     self.assertEqual(outcome(line, names), wanted)
                 many += 1
-        self.assertEqual(many, 13)
+        self.assertEqual(many, 58)
 
 
 if __name__ == "__main__":

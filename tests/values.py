@@ -4,6 +4,9 @@ import time
 import unittest
 
 from sevenball.papers import Denial
+from sevenball.points import Point
+from sevenball.quarters import Quarter
+from sevenball.turns import Turn
 from sevenball.words import Word
 
 HUGE = 10 ** 399 + 7
@@ -15,15 +18,23 @@ def some_function():
 
 NOT_STRINGS = [
     None, True, False, 0, 7, -1, HUGE, (), ("A", "B"), [], ["A"], {}, {"A": 1}, [[["A"]]],
-    some_function, len, Word, Word("A"), Denial(),
+    some_function, len, Word, Word("A"), Point(6, 2, 3, 7), Quarter(1, 2, 3), Denial(),
 ]
 NOT_INTEGERS = [
     None, True, False, "", "1", (), (1,), [], [1], {}, {1: 1}, [[(1,)]],
-    some_function, len, Word, Word(), Denial(),
+    some_function, len, Word, Word(), Point(1, 0, 0), Quarter(1, 2, 3), Denial(),
 ]
 NOT_WORDS = [
     None, True, 0, 1, HUGE, "", "A", "-", (), ("A",), ["A"], {"A": "A"},
-    some_function, Word, Denial(),
+    some_function, Word, Point(6, 2, 3, 7), Quarter(1, 2, 3), Turn(Word("A")), Denial(),
+]
+NOT_POINTS = [
+    None, True, 0, 1, HUGE, "", "1 0 0", (1, 0, 0), [1, 0, 0, 1], {"x": 1},
+    some_function, Point, Word("A"), Quarter(1, 2, 3), Turn(Word("A")), Denial(),
+]
+NOT_TURNS = [
+    None, True, 0, 1, HUGE, "", "1 2 3", (1, 2, 3), [1, 2, 3], {"x": 1},
+    some_function, Quarter, Turn, Word("A"), Point(1, 0, 0), Denial(),
 ]
 
 
