@@ -56,6 +56,11 @@ class Point:
         """The word of the point."""
         return Word(self.descent[0])
 
+    @word.setter
+    def word(self, value):
+        # Other classes assign an attribute of this name, so the property has a setter; a point never changes.
+        raise AttributeError("the word of a point is not assigned")
+
     @property
     def bare(self):
         """The bare point of the point."""

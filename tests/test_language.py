@@ -16,7 +16,7 @@ LIBRARY = {
 BUILTINS = set(
     "len range enumerate zip min max sum abs sorted reversed int str bool list tuple dict set isinstance ord repr any"
     " all divmod pow iter next map ValueError TypeError KeyError IndexError StopIteration ZeroDivisionError"
-    " NotImplemented property staticmethod classmethod super".split()
+    " NotImplemented AttributeError property staticmethod classmethod super".split()
 )
 BARRED = re.compile(
     r"\b(type|typing|typing_extensions|enum|Enum|Generic|Protocol|ABC|namedtuple|NamedTuple|register|mro|elements|open"
@@ -40,6 +40,25 @@ def trees():
 def defined_in(tree):
     names = [node.name for node in tree.body if isinstance(node, (ast.FunctionDef, ast.ClassDef))]
     return names + [node.targets[0].id for node in tree.body if isinstance(node, ast.Assign)]
+
+
+def properties_in(tree):
+    """For each class the names of its properties, and those of them that have a setter."""
+    for shape in ast.walk(tree):
+        if isinstance(shape, ast.ClassDef):
+            marks = [(node.name, ast.unparse(mark)) for node in shape.body if isinstance(node, ast.FunctionDef)
+                     for mark in node.decorator_list]
+            yield ({name for name, mark in marks if mark == "property"},
+                   {name for name, mark in marks if mark == name + ".setter"})
+
+
+def assigned_in(tree):
+    """The names of all attributes that some row assigns or deletes, also by setattr, with these rows."""
+    for node in ast.walk(tree):
+        if isinstance(node, ast.Attribute) and isinstance(node.ctx, (ast.Store, ast.Del)):
+            yield node.attr, node.lineno
+        if isinstance(node, ast.Call) and ast.unparse(node.func) in ("setattr", "delattr"):
+            yield node.args[1].value, node.lineno
 
 
 class Language(unittest.TestCase):
@@ -98,9 +117,30 @@ class Language(unittest.TestCase):
                     self.assertLessEqual(node.end_lineno - node.lineno + 1, 40, (path, node.name))
                     self.assertTrue(not node.name.startswith("__") or node.name in OPERATORS, (path, node.name))
                     for mark in node.decorator_list:
-                        self.assertIn(ast.unparse(mark), ("property", "staticmethod", "classmethod"), path)
+                        known = ("property", "staticmethod", "classmethod", node.name + ".setter")
+                        self.assertIn(ast.unparse(mark), known, path)
                 if isinstance(node, ast.ClassDef):
                     self.assertEqual(node.decorator_list, [], path)
+
+    def test_no_property_without_a_setter_is_assigned(self):
+        lacking = set()
+        for path, tree in trees():
+            for properties, setters in properties_in(tree):
+                self.assertLessEqual(setters, properties, path)
+                lacking |= properties - setters
+        for path, tree in trees():
+            for name, row in assigned_in(tree):
+                self.assertNotIn(name, lacking, (path, row))
+
+    def test_the_look_at_properties_sees_what_it_should(self):
+        tree = ast.parse(
+            "class Box:\n @property\n def many(self):\n  return 1\n"
+            " @property\n def size(self):\n  return 2\n @size.setter\n def size(self, value):\n  pass\n"
+        )
+        self.assertEqual(list(properties_in(tree)), [({"many", "size"}, {"size"})])
+        rows = "a.b = 1\nc, (d.e, *f.g) = h\ni.j += 1\nk.m[0] = n.o\np.q: int = 1\nfor r.s in t.u: pass\ndel v.w\nsetattr(x, 'y', 1)"
+        self.assertEqual(sorted(name for name, row in assigned_in(ast.parse(rows))),
+                         ["b", "e", "g", "j", "q", "s", "w", "y"])
 
     def test_words_and_statements(self):
         barred = (ast.AsyncFunctionDef, ast.Await, ast.Div)

@@ -170,6 +170,13 @@ class Turning(Case):
         self.assertEqual(word, Word("aB"))
 
 
+    def test_no_word_is_put_into_a_point(self):
+        point = Point(33, -4, -36, 49)
+        with self.assertRaises(AttributeError):
+            point.word = Word("C")
+        self.assertEqual([point.word, str(point.bare)], [Word("AB"), "1 0 0"])
+
+
 class Steps(Case):
     def test_steps(self):
         for bare in BARE:
