@@ -7,8 +7,12 @@ import unittest
 from sevenball.errors import BallError
 
 FOLDER = pathlib.Path(__file__).parent / "examples"
-MODULES = ("errors", "checks", "papers", "words", "points", "shells", "quarters", "turns")
-EXAMPLES = ("checks", "words", "points", "shells", "quarters", "turns")
+MODULES = (
+    "errors", "checks", "papers", "words", "points", "shells", "quarters", "turns", "machines", "painted", "made", "pieces",
+)
+EXAMPLES = (
+    "checks", "words", "points", "shells", "quarters", "turns", "machines", "painted", "made", "pieces",
+)
 
 
 def all_names():
@@ -56,7 +60,7 @@ class Examples(unittest.TestCase):
                 with self.subTest(module=module, line=line):
                     self.assertEqual(outcome(line, names), wanted)
                 many += 1
-        self.assertEqual(many, 58)
+        self.assertEqual(many, 94)
 
 
 if __name__ == "__main__":
