@@ -35,14 +35,13 @@ def ending(word):
     if not isinstance(word, Word):
         raise BadWord(0)
     size = len(word)
-    # Each standing is the longest beginning of the word that is a tail of what was read; shorter is the next one.
+    # Each standing is the longest beginning of the word that is a tail of what was read. Where the next letter is
+    # another one, it goes on as the next shorter such beginning does.
     rows = [list(ALL_TO_FIRST)]
-    shorter = 0
     for at, letter in enumerate(word.letters):
         place = LETTERS.index(letter)
-        following = rows[at][place]
+        shorter = rows[at][place]
         rows[at][place] = at + 1
-        shorter = following if at > 0 else 0
         rows.append(list(rows[shorter]))
     return machine_of(tuple([(at == size, tuple(row)) for at, row in enumerate(rows)]))
 

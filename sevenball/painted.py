@@ -64,7 +64,7 @@ class Painted:
         """The colours of all words, each once, ascending."""
         # Behind the first node are those that words lead to.
         marks, _ = unfolded(self.rows, 0)
-        return tuple(sorted({int(colour) for colour in marks[1:]}))
+        return tuple(sorted(set([int(colour) for colour in marks[1:]])))
 
     def __eq__(self, other):
         return isinstance(other, Painted) and apart_letters(self.rows, other.rows) is None

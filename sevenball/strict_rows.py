@@ -56,7 +56,7 @@ def blocks_of(marks, nexts):
         waiting[splitter] = False
         held = list(members[splitter])
         for letter in range(len(LETTERS)):
-            hits = led_there(before[letter], held, block)
+            hits = led_there(before, letter * len(nexts), held, block)
             for at, found in hits.items():
                 left = len(members[at]) - len(found)
                 if left == 0:
@@ -82,21 +82,19 @@ def first_blocks(marks):
 
 
 def led_from(nexts):
-    """For each letter and node the list of the nodes from which the letter leads there."""
-    before = []
-    for letter in range(len(LETTERS)):
-        rows = [[] for _ in nexts]
-        for node, row in enumerate(nexts):
-            rows[row[letter]].append(node)
-        before.append(rows)
+    """For each letter, and for each node, the list of the nodes from which the letter leads there, all in a row."""
+    before = [[] for _ in range(len(LETTERS) * len(nexts))]
+    for node, row in enumerate(nexts):
+        for letter, to in enumerate(row):
+            before[letter * len(nexts) + to].append(node)
     return before
 
 
-def led_there(before, held, block):
-    """By their blocks the nodes that a letter leads to those held."""
+def led_there(before, first, held, block):
+    """By their blocks the nodes that a letter leads to those held; first is where its lists begin."""
     hits = {}
     for node in held:
-        for other in before[node]:
+        for other in before[first + node]:
             hits.setdefault(block[other], []).append(other)
     return hits
 

@@ -9,9 +9,11 @@ from sevenball.errors import BallError
 FOLDER = pathlib.Path(__file__).parent / "examples"
 MODULES = (
     "errors", "checks", "papers", "words", "points", "shells", "quarters", "turns", "machines", "painted", "made", "pieces",
+    "tables", "look_tables", "tails", "look_tails",
 )
 EXAMPLES = (
     "checks", "words", "points", "shells", "quarters", "turns", "machines", "painted", "made", "pieces",
+    "tables", "look_tables", "tails", "look_tails",
 )
 
 
@@ -60,7 +62,7 @@ class Examples(unittest.TestCase):
                 with self.subTest(module=module, line=line):
                     self.assertEqual(outcome(line, names), wanted)
                 many += 1
-        self.assertEqual(many, 94)
+        self.assertEqual(many, 122)
 
 
 if __name__ == "__main__":

@@ -142,6 +142,21 @@ class Language(unittest.TestCase):
         self.assertEqual(sorted(name for name, row in assigned_in(ast.parse(rows))),
                          ["b", "e", "g", "j", "q", "s", "w", "y"])
 
+    def test_local_names(self):
+        for path, tree in trees():
+            barred = {alias.name for node in tree.body if isinstance(node, ast.ImportFrom) for alias in node.names}
+            barred |= {node.name for node in tree.body if isinstance(node, ast.ClassDef)}
+            for node in ast.walk(tree):
+                names = []
+                if isinstance(node, ast.FunctionDef):
+                    names = [node.name for one in ast.walk(node) if one is not node and isinstance(one, ast.FunctionDef)]
+                    names += [part.arg for part in node.args.args]
+                if isinstance(node, ast.Name) and isinstance(node.ctx, ast.Store):
+                    names = [node.id]
+                for name in names:
+                    self.assertNotIn(name, barred, path)
+                    self.assertFalse(hasattr(builtins, name), (path, name))
+
     def test_words_and_statements(self):
         barred = (ast.AsyncFunctionDef, ast.Await, ast.Div)
         for path, tree in trees():

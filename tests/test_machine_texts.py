@@ -6,6 +6,7 @@ from sevenball.errors import BadText, TooMany
 from sevenball.machines import Machine
 from sevenball.made import cone, up_to
 from sevenball.painted import Painted
+from sevenball.standings import rows_in
 from sevenball.words import Word
 from tests.readings import some_machines, some_painted, told_rows
 from tests.values import EVEN, NOT_STRINGS, Case
@@ -93,6 +94,14 @@ class Texts(Case):
             self.refuses(BadText(39998), shape.read, text[:-1] + "4000")
             self.refuses(BadText(1), shape.read, text.replace(" 0", " 10000", 1))
             self.refuses(BadText(5), shape.read, text.replace("3999", "39999", 1) + " / x")
+
+    def test_texts_behind_other_items(self):
+        marks = {"+": True, "-": False}
+        items = ("x : " + str(EVEN)).split(" ")
+        self.assertEqual(rows_in(items, 2, marks), EVEN.rows)
+        self.refuses(BadText(1), rows_in, items, 1, marks)
+        self.refuses(BadText(22), rows_in, [*items, "/"], 2, marks)
+        self.refuses(BadText(20), rows_in, [*items[:-1], "2"], 2, marks)
 
     def test_texts_of_what_is_made(self):
         for machine in (cone(Word("AB")), up_to(20), EVEN.turned(Word("ABcd")), cone(Word("A")) | EVEN):

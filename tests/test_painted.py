@@ -94,6 +94,7 @@ class Colours(Case):
         self.assertEqual(barred.colours(), (3,))
         self.assertEqual(barred.least().colours(), (3,))
         self.assertEqual(Painted([(9, [0] * 8), (0, [1] * 8)]).colours(), (9,))
+        self.assertEqual(Painted([(9, [1] * 8), (4, [1] * 8)]).colours(), (4, 9))
         self.assertEqual(Painted([(0, [1] * 8), (0, [1] * 8)]).colours(), (0,))
 
 
