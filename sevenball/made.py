@@ -88,7 +88,8 @@ def weighed(weights, modulus, rests):
     if not all([is_within(weight, -MOST_WEIGHT, MOST_WEIGHT) for weight in weights]):
         raise BadNumber("weights")
     check_rests(modulus, rests)
-    return of_rests([*weights, *[-weight for weight in weights]], modulus, rests)
+    back = [-weight for weight in weights]
+    return of_rests([*weights, *back], modulus, rests)
 
 
 def check_rests(modulus, rests):
@@ -147,4 +148,5 @@ def behind(word, machine):
     size = len(word)
     dead = size + len(machine.rows)
     ahead = [(False, one_way(letter, at + 1, dead)) for at, letter in enumerate(word.letters)]
-    return machine_of((*ahead, *shifted(machine.rows, size), (False, (dead,) * len(LETTERS))))
+    after = shifted(machine.rows, size)
+    return machine_of((*ahead, *after, (False, (dead,) * len(LETTERS))))

@@ -31,8 +31,13 @@ class Painted:
         if not all([isinstance(machine, Machine) for machine in machines]):
             raise BadMachine("machines")
         rows = NO_COLOURS
+        least = len(rows)
         for index, machine in enumerate(machines):
             rows = painted_over(rows, machine.strict, index + 1)
+            # The least rows by the first machines are never more than those by all: it pays to come back to them.
+            if len(rows) > 2 * least:
+                rows = strict_of(rows, 0)
+                least = len(rows)
         return painted_of(rows)
 
     @staticmethod
@@ -83,7 +88,7 @@ def painted_of(rows):
 
 
 def painted_over(rows, lit_rows, colour):
-    """The least rows by which words without a colour have this one where the other rows are lit."""
+    """The rows by which words without a colour have this one where the other rows are lit."""
     pairs, nexts = paired(rows, lit_rows)
     colours = [colour if lit_rows[to][0] and rows[at][0] == 0 else rows[at][0] for at, to in pairs]
-    return strict_of(tuple(list(zip(colours, nexts))), 0)
+    return tuple(list(zip(colours, nexts)))
