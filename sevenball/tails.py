@@ -197,7 +197,8 @@ def lead_letters(rows, letters):
     begun = {at: at for at in range(len(rows))}
     for letter in letters:
         following = {}
-        for at in begun:
+        # A copy is gone over, as behind the loop both names mean one dict.
+        for at in list(begun):
             following.setdefault(rows[at][1][LETTERS.index(letter)], begun[at])
         begun = following
     for at in begun:

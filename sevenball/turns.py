@@ -23,10 +23,20 @@ class Turn:
             quarter = Quarter(1, 2, 3)
         if not isinstance(quarter, Quarter):
             raise BadTurn("quarter")
-        self.word = word
+        self._word = word
         self.quarter = quarter
         self.rows = rows_of(word.letters, quarter)
         self.under = power_of_seven(len(word))
+
+    @property
+    def word(self):
+        """The word of the turn."""
+        return self._word
+
+    @word.setter
+    def word(self, value):
+        # Operators make turns, so no attribute of a turn is assigned under this name: Point has a setter of it.
+        raise AttributeError("the word of a turn is not assigned")
 
     @staticmethod
     def of(rows, under=1):

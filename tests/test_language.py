@@ -61,7 +61,152 @@ def assigned_in(tree):
             yield node.args[1].value, node.lineno
 
 
+def called_in(node):
+    """The names that a function calls, of functions and classes, and of methods, and those of properties it reads."""
+    for part in ast.walk(node):
+        if isinstance(part, ast.Call):
+            yield part.func.id if isinstance(part.func, ast.Name) else getattr(part.func, "attr", "")
+        if isinstance(part, ast.Attribute) and isinstance(part.ctx, ast.Load):
+            yield part.attr
+
+
+def bodies_in(trees_found):
+    """By the name by which it is called each function, method and `__init__`, and the names of those that start runs.
+
+    Operators, `__str__` and their kind, and properties start runs that change nothing.
+    """
+    bodies, starts = {}, []
+    for tree in trees_found:
+        for node in tree.body:
+            if isinstance(node, ast.FunctionDef):
+                bodies.setdefault(node.name, []).append(node)
+            if not isinstance(node, ast.ClassDef):
+                continue
+            # A class without an `__init__` calls that of a base class.
+            bodies.setdefault(node.name, []).extend(ast.parse(f"{ast.unparse(base)}()") for base in node.bases)
+            for part in node.body:
+                if not isinstance(part, ast.FunctionDef):
+                    continue
+                marks = [ast.unparse(mark) for mark in part.decorator_list]
+                if part.name == "__init__":
+                    bodies[node.name].append(part)
+                elif part.name.startswith("__") and part.name not in ("__call__", "__iter__"):
+                    starts.append(part)
+                elif "property" in marks:
+                    starts.append(part)
+                    bodies.setdefault(part.name, []).append(part)
+                elif part.name + ".setter" not in marks:
+                    bodies.setdefault(part.name, []).append(part)
+    return bodies, starts
+
+
+def reached_from(bodies, starts):
+    """All bodies that the starts run, by the names that are called alone, whatever class they stand in."""
+    waiting, met = list(starts), []
+    for node in waiting:
+        if not any(node is other for other in met):
+            met.append(node)
+            waiting.extend(body for name in called_in(node) for body in bodies.get(name, []))
+    return met
+
+
+MODIFIERS = {"append", "clear", "extend", "insert", "pop", "remove", "reverse", "setdefault", "update", "sort", "add",
+             "discard", "appendleft", "popleft", "extendleft", "rotate"}
+
+
+def heads_of(node):
+    """The names, and the names of attributes, that a loop goes over, or that a modified value is told by."""
+    if isinstance(node, ast.Name):
+        return {node.id}
+    if isinstance(node, ast.Attribute):
+        return {"." + node.attr}
+    if isinstance(node, ast.Subscript):
+        return heads_of(node.value)
+    if isinstance(node, ast.IfExp):
+        return heads_of(node.body) | heads_of(node.orelse)
+    if isinstance(node, ast.BoolOp):
+        return set().union(*[heads_of(part) for part in node.values])
+    if isinstance(node, ast.Call):
+        name = ast.unparse(node.func)
+        if name in ("enumerate", "zip", "reversed", "iter"):
+            return set().union(*[heads_of(part) for part in node.args])
+        if isinstance(node.func, ast.Attribute) and node.func.attr in ("items", "keys", "values", "setdefault", "get"):
+            return heads_of(node.func.value)
+    return set()
+
+
+def modified_in(loop):
+    """The heads of all that the rows of a loop modify."""
+    for part in (one for row in loop.body for one in ast.walk(row)):
+        if isinstance(part, ast.Subscript) and isinstance(part.ctx, (ast.Store, ast.Del)):
+            yield from heads_of(part.value)
+        if isinstance(part, ast.Call) and isinstance(part.func, ast.Attribute) and part.func.attr in MODIFIERS:
+            yield from heads_of(part.func.value)
+        if isinstance(part, ast.Call) and ast.unparse(part.func) in ("heappush", "heappop"):
+            yield from heads_of(part.args[0])
+
+
+def same_names(function):
+    """Pairs of names of which some row of a function makes one mean what the other one means."""
+    for part in ast.walk(function):
+        if isinstance(part, ast.Assign):
+            for target in part.targets:
+                pairs = [(target, part.value)]
+                if isinstance(target, ast.Tuple) and isinstance(part.value, ast.Tuple):
+                    pairs = list(zip(target.elts, part.value.elts))
+                yield from ((one, other) for to, value in pairs for one in heads_of(to) for other in heads_of(value)
+                            if isinstance(to, ast.Name))
+
+
+def loops_that_change_what_they_go_over(tree):
+    """The rows of loops that go over what they may change, by names that may mean the same value."""
+    for function in ast.walk(tree):
+        if not isinstance(function, ast.FunctionDef):
+            continue
+        pairs = [{one, other} for one, other in same_names(function)]
+        for loop in ast.walk(function):
+            if isinstance(loop, ast.For):
+                over = heads_of(loop.iter)
+                for _ in pairs:
+                    over = over.union(*[pair for pair in pairs if pair & over])
+                if over & set(modified_in(loop)):
+                    yield loop.lineno
+
+
 class Language(unittest.TestCase):
+    def test_what_operators_and_properties_call_assigns_no_name_with_a_setter(self):
+        every = [tree for path, tree in trees()]
+        barred = {name for tree in every for properties, setters in properties_in(tree) for name in setters}
+        self.assertIn("word", barred)
+        bodies, starts = bodies_in(every)
+        met = reached_from(bodies, starts)
+        self.assertGreater(len(met), 60)
+        for node in met:
+            for name, row in assigned_in(node):
+                self.assertNotIn(name, barred, (getattr(node, "name", ""), row))
+
+    def test_the_look_at_what_is_called_sees_what_it_should(self):
+        tree = ast.parse(
+            "class Box:\n def __init__(self):\n  self.word = 1\n def __mul__(self, other):\n  return made(other)\n"
+            " def free(self):\n  self.word = 2\n @property\n def size(self):\n  return self.inner.told()\n"
+            " def told(self):\n  self.held = 3\nclass Lid(Box):\n pass\ndef made(x):\n return Lid()\n"
+        )
+        met = reached_from(*bodies_in([tree]))
+        self.assertEqual(sorted(name for node in met for name, row in assigned_in(node)), ["held", "word"])
+
+    def test_no_loop_changes_what_it_goes_over(self):
+        for path, tree in trees():
+            self.assertEqual(list(loops_that_change_what_they_go_over(tree)), [], path)
+
+    def test_the_look_at_loops_sees_what_it_should(self):
+        rows = ("def one(xs):\n begun = {{}}\n for x in xs:\n  next_ones = {{}}\n  for at in {}:\n"
+                "   next_ones.setdefault(at, 1)\n  begun = next_ones\n")
+        self.assertEqual(list(loops_that_change_what_they_go_over(ast.parse(rows.format("begun")))), [5])
+        self.assertEqual(list(loops_that_change_what_they_go_over(ast.parse(rows.format("list(begun)")))), [])
+        for row, wanted in (("for at, x in enumerate(self.rows): self.rows.append(x)", [2]), ("for x in a or b: b.pop()", [2]),
+                            ("for x in rows[1]: rows[1][0] = x", [2]), ("for x in list(rows): rows.append(x)", [])):
+            self.assertEqual(list(loops_that_change_what_they_go_over(ast.parse("def f():\n " + row))), wanted)
+
     def test_files(self):
         self.assertTrue((PACKAGE / "__init__.py").is_file())
         for path in PACKAGE.rglob("*"):

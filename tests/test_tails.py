@@ -118,6 +118,24 @@ class Tails(Case):
         self.assertEqual(self.comes_soon(lambda: lead(cone(LONGEST[:2000]), Word("A" * 2000))), LONGEST[:2000])
         self.assertEqual(self.comes_soon(lambda: lead(EVEN, LONGEST[:3999])), Word("A"))
 
+    def test_the_least_lead_of_all(self):
+        ahead = [(word.letters, undone(word.letters)[:1]) for word in short_words(4)]
+        behind_it = [word for word in short_words(2)[::6]] + [
+            Word(letters) for letters in ("Abc", "aDD", "CdCd", "bABB", "ABcDa", "ddddd", "ABcDAb", "cBaDcB", "AAAAAA")
+        ]
+        machines = [LAST, GREAT, EVEN, cone(Word("AB")).least(), *few_standings()[1::6], *few_standings()[3::6]]
+        for machine in machines:
+            ends = [(to, letters) for to, letters in zip([machine.after(word) for word in short_words(4)], ahead)]
+            for word in behind_it:
+                takes_from = [lit_from(machine.rows, to, word.letters) for to in range(machine.standings)]
+                least = next((letters for to, (letters, barred) in ends
+                              if takes_from[to] and (not barred or word.letters[:1] != barred)), None)
+                told = lead(machine, word)
+                if least is not None:
+                    self.assertEqual(told, Word(least))
+                elif told is not None:
+                    self.assertGreater(len(told), 4)
+
     def test_wrong_arguments(self):
         for value in NOT_MACHINES:
             for call in (is_tail, lead, uncovered, beyond, shows_covering):
@@ -138,6 +156,12 @@ class Tails(Case):
         uncovered(machine, turns), shows_covering(machine, Covering(turns)), beyond(LAST, 2), shows_beyond(LAST, 2, Word())
         self.assertEqual((machine.rows, machine.standings), before)
         self.assertEqual(turns, [Word(), Word("b")])
+
+
+def lit_from(rows, standing, letters):
+    for letter in letters:
+        standing = rows[standing][1][LETTERS.index(letter)]
+    return rows[standing][0]
 
 
 def first_but(letter):

@@ -39,6 +39,14 @@ class Making(Case):
                 self.assertEqual(turn(point), told)
                 self.assertEqual(turn(point=point), told)
 
+    def test_the_word_is_not_assigned(self):
+        turn = Turn(word=Word("AB"))
+        with self.assertRaises(AttributeError):
+            turn.word = Word("C")
+        self.assertEqual(turn.word, Word("AB"))
+        self.assertEqual((turn * turn).word, Word("ABAB"))
+        self.assertEqual((~turn).word, Word("ba"))
+
     def test_quarter_may_be_left_out(self):
         self.assertEqual(Turn(Word("A")).quarter, Quarter(1, 2, 3))
         self.assertEqual(Turn(Word("A"), None), Turn(quarter=Quarter(1, 2, 3), word=Word("A")))
