@@ -82,3 +82,16 @@ def followers(letters):
     if letters == "":
         return LETTERS
     return LETTERS.replace(letters[-1].swapcase(), "")
+
+
+def none_begins_another(rows):
+    """Whether none of the strings is a beginning of another one, and none stands there twice."""
+    # In the order of strings what begins with one stands right behind it.
+    ordered = sorted([str(letters) for letters in rows])
+    return not any([other.startswith(one) for one, other in zip(ordered, ordered[1:])])
+
+
+def ascending(rows):
+    """The strings in the order of words: shorter ones first."""
+    ordered = sorted([str(letters) for letters in rows])
+    return sorted(ordered, key=len)

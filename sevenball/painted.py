@@ -22,6 +22,14 @@ class Painted:
         if not all([is_within(row[0], 0, MOST_COLOUR) for row in self.rows]):
             raise BadMachine("rows")
         self.standings = len(self.rows)
+        self._strict_rows = None
+
+    @property
+    def strict(self):
+        """The rows of the least painted machine."""
+        if self._strict_rows is None:
+            self._strict_rows = strict_of(self.rows, 0)
+        return self._strict_rows
 
     @staticmethod
     def of(machines):
@@ -76,7 +84,7 @@ class Painted:
 
     def least(self):
         """The strict painted machine with the same colours of all words and the fewest standings."""
-        return painted_of(strict_of(self.rows, 0))
+        return painted_of(self.strict)
 
 
 def painted_of(rows):

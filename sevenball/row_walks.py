@@ -1,10 +1,13 @@
 """Walks by words in rows of standings, in one of them and in two at once."""
 
 from sevenball.checks import LETTERS
+from sevenball.errors import TooMany
 from sevenball.letter_rows import undone
 from sevenball.standings import shifted
 from sevenball.strict_rows import BARRED, NO_LETTER
 
+# The bound that errors tell where a set is cut.
+MOST_OF_CUTS = 2000
 # The rows of a machine that takes no word.
 NO_WORDS = ((False, (0, 0, 0, 0, 0, 0, 0, 0)),)
 
@@ -76,6 +79,30 @@ def paired(one, other):
         nexts.append(tuple(row))
         at += 1
     return pairs, nexts
+
+
+def walked(rows, start, most):
+    """The tuples of standings that strings lead to at once from a start, and for each the eight that come next.
+
+    TooMany if there are more than most; None stands for no bound.
+    """
+    met = [start]
+    numbers = {start: 0}
+    nexts = []
+    at = 0
+    while at < len(met):
+        ahead = [rows[standing][1] for standing in met[at]]
+        row = []
+        for following in zip(*ahead):
+            if following not in numbers:
+                numbers[following] = len(met)
+                met.append(following)
+            row.append(numbers[following])
+        if most is not None and len(met) > most:
+            raise TooMany("standings", MOST_OF_CUTS)
+        nexts.append(tuple(row))
+        at += 1
+    return met, nexts
 
 
 def beginnings(rows, letters, first, base):

@@ -1,7 +1,7 @@
 """Tails of sets: with which words the words of a set end, and what copies of it cover."""
 
 from sevenball.checks import LETTERS, is_within
-from sevenball.errors import BadMachine, BadNumber, BadWord
+from sevenball.errors import BadMachine, BadNumber, BadWord, Thin
 from sevenball.machines import Machine
 from sevenball.papers import Denial, Paper
 from sevenball.row_walks import beginnings
@@ -104,6 +104,13 @@ def check_machine(value):
         raise BadMachine("machine")
 
 
+def check_full(machine):
+    """Raises Thin for a machine with a lost tail."""
+    lost = lost_tail(machine)
+    if lost is not None:
+        raise Thin(lost)
+
+
 def are_turns(value):
     """Whether any value is a list of words, and not too many."""
     if not isinstance(value, (list, tuple)) or len(value) > MOST_TURNS:
@@ -151,13 +158,24 @@ def missed_letters(rows, start, sure):
 
     From a standing that is sure, told for each last letter, no word is missed.
     """
-    met = {(NO_LETTER, start): True}
-    queue = [("", start, NO_LETTER)]
+    _, letters = missed_behind(rows, start, sure, NO_LETTER, None)
+    return letters
+
+
+def missed_behind(rows, start, sure, last, most):
+    """As missed_letters, of words behind a letter, told by its index, in a pair: True, and the letters or None.
+
+    False and None if more than most sets of standings are to be looked at; of None there may be any number.
+    """
+    met = {(last, start): True}
+    queue = [("", start, last)]
     at = 0
     while at < len(queue):
         letters, held, last = queue[at]
         if not is_lit(rows, held):
-            return letters
+            return True, letters
+        if most is not None and len(queue) > most:
+            return False, None
         for letter in range(len(LETTERS)):
             if letter == BARRED[last]:
                 continue
@@ -167,7 +185,7 @@ def missed_letters(rows, start, sure):
             met[(letter, following)] = True
             queue.append((letters + LETTERS[letter], following, letter))
         at += 1
-    return None
+    return True, None
 
 
 def uncovered_letters(rows, turns):

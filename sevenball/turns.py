@@ -2,7 +2,7 @@
 
 from sevenball.checks import is_integer
 from sevenball.errors import BadNumber, BadPoint, BadText, BadTurn, BadWord
-from sevenball.letter_rows import MOST_LETTERS, joined, repeated, undone
+from sevenball.letter_rows import MOST_LETTERS, ascending, joined, repeated, undone
 from sevenball.points import Point
 from sevenball.quarters import Quarter, quarter_in
 from sevenball.sevens import led_on, power_of_seven
@@ -194,9 +194,4 @@ def turns_between(one, other):
         if quarter.point_to(start) == goal:
             back = quarter.renamed(undone(one.descent[0]))
             found.setdefault(joined(other.descent[0], back), []).append(quarter)
-    rows = sorted([str(letters) for letters in found])
-    return tuple([
-        Turn(Word(letters), quarter)
-        for letters in sorted(rows, key=len)
-        for quarter in found[letters]
-    ])
+    return tuple([Turn(Word(letters), quarter) for letters in ascending(found) for quarter in found[letters]])
