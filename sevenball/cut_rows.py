@@ -65,7 +65,8 @@ def rooms_of(rows, guests):
 
 def with_rooms(block, rooms, colour, other):
     """The rows of a block, with another colour for those words of a colour that make room."""
-    stacked = [*block, *shifted(rooms, len(block))]
+    behind = shifted(rooms, len(block))
+    stacked = [*block, *behind]
     met, nexts = walked(stacked, (0, len(block)), MOST_WALKED)
     made = []
     for (at, to), row in zip(met, nexts):

@@ -36,7 +36,11 @@ def is_row(value, many):
 
 def led_to(rows, letters):
     """The number of the standing that letters lead to."""
-    standing = 0
+    return led_behind(rows, 0, letters)
+
+
+def led_behind(rows, standing, letters):
+    """The number of the standing that letters lead to from one."""
     for letter in letters:
         standing = rows[standing][1][LETTERS.index(letter)]
     return standing

@@ -10,10 +10,12 @@ FOLDER = pathlib.Path(__file__).parent / "examples"
 MODULES = (
     "errors", "checks", "papers", "words", "points", "shells", "quarters", "turns", "machines", "painted", "made", "pieces",
     "tables", "look_tables", "tails", "look_tails", "balls", "cuts", "look_cuts", "crossings",
+    "nets", "lots", "lot_cuts", "texts", "desk",
 )
 EXAMPLES = (
     "checks", "words", "points", "shells", "quarters", "turns", "machines", "painted", "made", "pieces",
     "tables", "look_tables", "tails", "look_tails", "balls", "cuts", "look_cuts", "crossings",
+    "nets", "lots", "lot_cuts", "texts", "desk",
 )
 
 
@@ -73,7 +75,7 @@ class Examples(unittest.TestCase):
                         told = told.split("(")[0]
                     self.assertEqual(told, wanted)
                 many += 1
-        self.assertEqual(many, 177)
+        self.assertEqual(many, 224)
 
 
 if __name__ == "__main__":
