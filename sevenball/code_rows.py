@@ -107,7 +107,7 @@ def guest_of(rows, ahead, letters):
     return guest
 
 
-def led_there(rows, ahead, letters):
+def goes_to(rows, ahead, letters):
     """The ball and the letters to which a word of the set goes."""
     found = code_of(rows, ahead, letters)
     if found is None:
@@ -119,7 +119,7 @@ def led_there(rows, ahead, letters):
     return ball, rest
 
 
-def led_back(rows, ahead, ball, letters):
+def comes_from(rows, ahead, ball, letters):
     """The letters of the word of the set that goes to some letters on a ball."""
     if ball == 0:
         guest = guest_of(rows, ahead, letters)

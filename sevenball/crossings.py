@@ -1,7 +1,7 @@
 """Crossings: words and points of a set led to balls by a cut of it, and back."""
 
 from sevenball.checks import is_within
-from sevenball.code_rows import codes_for, led_back, led_there, turns_of
+from sevenball.code_rows import codes_for, comes_from, goes_to, turns_of
 from sevenball.errors import BadMachine, BadNumber, BadPoint, BadWord
 from sevenball.letter_rows import ascending, joined, undone
 from sevenball.machines import Machine
@@ -30,7 +30,7 @@ class Crossing:
     def there(self, value):
         """The ball and the value to which a value of the set goes."""
         letters = letters_in(value, self.machine)
-        ball, come = led_there(self.machine.strict, self.ahead, letters)
+        ball, come = goes_to(self.machine.strict, self.ahead, letters)
         return ball, put_there(value, come)
 
     def back(self, ball, value):
@@ -38,7 +38,7 @@ class Crossing:
         if not is_within(ball, 0, self.count - 1):
             raise BadNumber("ball")
         letters = letters_of(value)
-        return put_there(value, led_back(self.machine.strict, self.ahead, ball, letters))
+        return put_there(value, comes_from(self.machine.strict, self.ahead, ball, letters))
 
 
 class Carry:

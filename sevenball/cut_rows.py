@@ -12,7 +12,8 @@ from sevenball.strict_rows import strict_of
 
 # So many standings are worked with, before those that can be taken for one are.
 MOST_WALKED = 40000
-GUEST_LETTER = LETTERS.index("b")
+# The index of the letter b.
+GUEST_LETTER = 5
 
 
 def cut_rows(rows, ahead):

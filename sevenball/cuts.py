@@ -181,7 +181,8 @@ def split_rows(cut, ball, other, more):
         if its == ball and turn.letters not in behind:
             behind[turn.letters] = len(start)
             start.append(len(stacked))
-            ahead = turned_rows(other.painted.strict, undone(turn.letters))
+            # Strict rows all come to where nothing goes on together, by strings that are no words.
+            ahead = strict_of(turned_rows(other.painted.strict, undone(turn.letters)), 0)
             stacked.extend(shifted(ahead, start[-1]))
     met, nexts = walked(stacked, tuple(start), None)
     numbers = {None: 0}

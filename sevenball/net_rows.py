@@ -19,8 +19,9 @@ def rings_of(words):
         for place, letter in enumerate(letters):
             to = 0 if place + 1 == len(letters) else many
             edges.append((at, LETTERS.index(letter), to))
+            if to > 0:
+                many += 1
             at = to
-            many += 1 if to > 0 else 0
     return many, edges
 
 

@@ -110,6 +110,52 @@ def reached_from(bodies, starts):
     return met
 
 
+def is_new(value):
+    """Whether a value that is assigned is surely a list or a dict that the function creates."""
+    if isinstance(value, ast.Call):
+        return isinstance(value.func, ast.Name) and value.func.id in ("list", "dict", "sorted")
+    if isinstance(value, ast.BinOp):
+        return is_new(value.left) or (isinstance(value.op, ast.Add) and is_new(value.right))
+    return isinstance(value, (ast.List, ast.Dict, ast.ListComp, ast.DictComp)) or (
+        isinstance(value, ast.Subscript) and isinstance(value.slice, ast.Slice))
+
+
+def changed_from_outside(function):
+    """The rows in which a function changes what it did not create itself as a list, a dict or an object of a class."""
+    known = {}
+    for part in ast.walk(function):
+        if isinstance(part, ast.Assign):
+            for target in part.targets:
+                pairs = [(target, part.value)]
+                if isinstance(target, ast.Tuple):
+                    values = part.value.elts if isinstance(part.value, ast.Tuple) else [None] * len(target.elts)
+                    pairs = list(zip(target.elts, values))
+                for to, value in pairs:
+                    known.setdefault(ast.unparse(to), []).append(value)
+        if isinstance(part, (ast.For, ast.comprehension)):
+            for name in ast.walk(part.target):
+                known.setdefault(ast.unparse(name), []).append(None)
+    for part in ast.walk(function):
+        held = None
+        if isinstance(part, ast.Subscript) and isinstance(part.ctx, (ast.Store, ast.Del)):
+            held = part.value
+        if isinstance(part, ast.Call) and isinstance(part.func, ast.Attribute) and part.func.attr in MODIFIERS:
+            held = part.func.value
+        if held is not None:
+            # Also `found.setdefault(k, []).append(x)`, and items of what it created.
+            while isinstance(held, (ast.Subscript, ast.Call)):
+                held = held.value if isinstance(held, ast.Subscript) else getattr(held.func, "value", held.func)
+            values = known.get(ast.unparse(held), [])
+            if values == [] or not all(value is not None and is_new(value) for value in values):
+                yield part.lineno
+        if isinstance(part, ast.Attribute) and isinstance(part.ctx, ast.Store) and function.name != "__init__":
+            values = known.get(ast.unparse(part.value), [])
+            made = [value for value in values if isinstance(value, ast.Call) and ast.unparse(value.func)[:1].isupper()]
+            kept = any(isinstance(row, ast.If) and ast.unparse(row.test) == ast.unparse(part) + " is None" for row in function.body)
+            if not kept and (values == [] or len(made) < len(values)):
+                yield part.lineno
+
+
 MODIFIERS = {"append", "clear", "extend", "insert", "pop", "remove", "reverse", "setdefault", "update", "sort", "add",
              "discard", "appendleft", "popleft", "extendleft", "rotate"}
 
@@ -185,6 +231,20 @@ class Language(unittest.TestCase):
             for name, row in assigned_in(node):
                 self.assertNotIn(name, barred, (getattr(node, "name", ""), row))
 
+    def test_operators_and_properties_change_nothing_but_what_they_created(self):
+        for node in reached_from(*bodies_in([tree for path, tree in trees()])):
+            if isinstance(node, ast.FunctionDef):
+                self.assertEqual(list(changed_from_outside(node)), [], node.name)
+
+    def test_the_look_at_changes_sees_what_it_should(self):
+        for rows, wanted in (
+            ("xs.append(1)", [2]), ("ys = []\n ys.append(1)", []), ("ys = xs\n ys[0] = 1", [3]), ("ys = list(xs)\n ys[0][1] = 1", []),
+            ("self.x = 1", [2]), ("box = Box(1)\n box.x = 1", []), ("box = made(1)\n box.x = 1", [3]), ("for y in xs:\n  y.pop()", [3]),
+            ("ys = {}\n ys.setdefault(1, []).append(2)", []), ("if self._x is None:\n  self._x = 1\n return self._x", []),
+        ):
+            tree = ast.parse("def f(self, xs):\n " + rows)
+            self.assertEqual(list(changed_from_outside(tree.body[0])), wanted, rows)
+
     def test_the_look_at_what_is_called_sees_what_it_should(self):
         tree = ast.parse(
             "class Box:\n def __init__(self):\n  self.word = 1\n def __mul__(self, other):\n  return made(other)\n"
@@ -229,6 +289,8 @@ class Language(unittest.TestCase):
                     names.extend(alias.name for alias in node.names)
                 else:
                     self.assertIsInstance(node, (ast.FunctionDef, ast.ClassDef, ast.Assign), path)
+                    calls = [part for part in ast.walk(node) if isinstance(part, ast.Call)]
+                    self.assertTrue(calls == [] or not isinstance(node, ast.Assign), (path, node.lineno))
             names.extend(defined_in(tree))
             self.assertEqual(len(names), len(set(names)), path)
 

@@ -173,6 +173,7 @@ class Faults(Case):
         self.assertEqual(least_fault(lot, steps), fault_by_hand(lot, steps))
         great = Cut(ONE, [(Word("A" * 4000), 0)])
         self.assertEqual(self.comes_soon(lambda: least_fault(lot, great)), 0)
+        self.assertEqual(self.comes_soon(lambda: least_fault(lot, Cut(ONE, [(Word("a" * 4000), 0)]))), 0)
         self.assertEqual(least_fault(lot, Cut(Painted([(0, [0] * 8)]), [])), 0)
         self.assertEqual(least_fault(lot, Cut(HALVES, [(Word(), 0), (Word("A"), 1)])), 1)
         self.assertEqual(least_fault(lot, Cut(HALVES, [(Word(), 0), (Word(), 1)])), 0)
