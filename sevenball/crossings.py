@@ -69,7 +69,8 @@ class Carry:
 
 def each_once(rows):
     """The words of the letters, ascending, each once."""
-    return tuple([Word(letters) for letters in ascending({letters: True for letters in rows})])
+    unlike = {row: True for row in rows}
+    return tuple([Word(letters) for letters in ascending(unlike)])
 
 
 def letters_of(value):

@@ -53,8 +53,10 @@ def folded(many, edges):
                 waiting.append((one, letter, other))
                 break
     start = head_in(heads, 0)
+    # Of those that went nothing is left.
     alone = [
-        [None if to is None or heads[at] != at else head_in(heads, to) for to in row] for at, row in enumerate(rows)
+        [None if end is None or heads[place] != place else head_in(heads, end) for end in row]
+        for place, row in enumerate(rows)
     ]
     return numbered(core_of(alone, start), start)
 
@@ -92,7 +94,7 @@ def numbered(rows, start):
                 numbers[to] = len(order)
                 order.append(to)
         at += 1
-    return tuple([tuple([None if to is None else numbers[to] for to in rows[place]]) for place in order])
+    return tuple([tuple([None if end is None else numbers[end] for end in rows[place]]) for place in order])
 
 
 def both_nets(one, other):

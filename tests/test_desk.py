@@ -161,7 +161,7 @@ class Lines(DeskCase):
             ("send p even 0", 3), ("send p even 7", 3), ("send p even", 3), ("send p even 1 0", 4), ("send p even -", 3), ("fetch p even 3 3", 4),
             ("fetch p even 3 -1", 4), ("fetch p even 3", 4), ("fetch p even 7 0", 3), ("fetch p even 3 0 0", 5), ("carry p even", 3),
             ("carry p even z a1", 4), ("bring p even", 3), ("bring P even a1", 1), ("forget", 1), ("forget p q", 2), ("first", 1), ("first even a1", 2),
-            ("many even", 2), ("many even 61", 2), ("many even -1", 2), ("words even 3", 2), ("words even 1 1", 3), ("takes even", 2),
+            ("many even", 2), ("many even 61", 2), ("many even -1", 2), ("words even 3", 2), ("words even -1", 2), ("just -1 even", 1), ("words even 1 1", 3), ("takes even", 2),
             ("takes even " + FAR + "A", 2), ("takes even E", 2), ("holds even", 2), ("holds even P", 2), ("same even", 2), ("lost", 1), ("lost z A", 2),
             ("lead z", 2), ("lead z Aa", 2), ("copies", 1), ("copies z z", 2), ("missing", 1), ("missing z" + " A" * 21, 22), ("missing z A Aa B", 3),
             ("missing z A " + FAR + "A", 3), ("beyond z", 2), ("beyond z 101", 2), ("beyond z -1", 2), ("beyond z 0100", 2), ("just", 1), ("just 1", 2),
