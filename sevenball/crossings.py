@@ -40,6 +40,10 @@ class Crossing:
         letters = letters_of(value)
         return put_there(value, comes_from(self.machine.strict, self.ahead, ball, letters))
 
+    # The turns hang on the set and on the number of balls alone.
+    def __eq__(self, other):
+        return isinstance(other, Crossing) and self.count == other.count and self.machine == other.machine
+
 
 class Carry:
     """The way from one set to another one, by a ball."""
@@ -65,6 +69,10 @@ class Carry:
         """The value of the one set of which a value of the other comes."""
         ball, come = self.homeward.there(value)
         return self.outward.back(ball, come)
+
+    # The turns hang on the two sets alone.
+    def __eq__(self, other):
+        return isinstance(other, Carry) and self.one == other.one and self.other == other.other
 
 
 def each_once(rows):

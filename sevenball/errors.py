@@ -11,12 +11,18 @@ class BadNumber(BallError):
     def __init__(self, part):
         self.part = part
 
+    def __eq__(self, other):
+        return isinstance(other, BadNumber) and self.part == other.part
+
 
 class BadPoint(BallError):
     """What was passed as a point, or as a part of one, is none."""
 
     def __init__(self, part):
         self.part = part
+
+    def __eq__(self, other):
+        return isinstance(other, BadPoint) and self.part == other.part
 
 
 class BadTurn(BallError):
@@ -25,12 +31,18 @@ class BadTurn(BallError):
     def __init__(self, part):
         self.part = part
 
+    def __eq__(self, other):
+        return isinstance(other, BadTurn) and self.part == other.part
+
 
 class BadMachine(BallError):
     """What was passed as a machine, or as a part of one, is none."""
 
     def __init__(self, part):
         self.part = part
+
+    def __eq__(self, other):
+        return isinstance(other, BadMachine) and self.part == other.part
 
 
 class BadPiece(BallError):
@@ -39,12 +51,18 @@ class BadPiece(BallError):
     def __init__(self, part):
         self.part = part
 
+    def __eq__(self, other):
+        return isinstance(other, BadPiece) and self.part == other.part
+
 
 class BadLot(BallError):
     """What was passed as a lot, or as a part of one, is none."""
 
     def __init__(self, part):
         self.part = part
+
+    def __eq__(self, other):
+        return isinstance(other, BadLot) and self.part == other.part
 
 
 class BadPaper(BallError):
@@ -53,12 +71,18 @@ class BadPaper(BallError):
     def __init__(self, part):
         self.part = part
 
+    def __eq__(self, other):
+        return isinstance(other, BadPaper) and self.part == other.part
+
 
 class BadWord(BallError):
     """No word; at is the index of the first sign that cannot stand in it."""
 
     def __init__(self, at):
         self.at = at
+
+    def __eq__(self, other):
+        return isinstance(other, BadWord) and self.at == other.at
 
 
 class BadLetter(BallError):
@@ -67,12 +91,18 @@ class BadLetter(BallError):
     def __init__(self, value):
         self.value = value
 
+    def __eq__(self, other):
+        return isinstance(other, BadLetter) and self.value == other.value
+
 
 class Thin(BallError):
     """A set has a lost tail, the word."""
 
     def __init__(self, word):
         self.word = word
+
+    def __eq__(self, other):
+        return isinstance(other, Thin) and self.word == other.word
 
 
 class TooMany(BallError):
@@ -82,12 +112,18 @@ class TooMany(BallError):
         self.what = what
         self.most = most
 
+    def __eq__(self, other):
+        return isinstance(other, TooMany) and self.what == other.what and self.most == other.most
+
 
 class BadText(BallError):
     """No text; item is the index of the first item that cannot stand."""
 
     def __init__(self, item):
         self.item = item
+
+    def __eq__(self, other):
+        return isinstance(other, BadText) and self.item == other.item
 
 
 class BadName(BallError):
@@ -96,12 +132,18 @@ class BadName(BallError):
     def __init__(self, value):
         self.value = value
 
+    def __eq__(self, other):
+        return isinstance(other, BadName) and self.value == other.value
+
 
 class NoName(BallError):
     """A name of nothing that is kept."""
 
     def __init__(self, name):
         self.name = name
+
+    def __eq__(self, other):
+        return isinstance(other, NoName) and self.name == other.name
 
 
 class Twice(BallError):
@@ -110,6 +152,9 @@ class Twice(BallError):
     def __init__(self, name):
         self.name = name
 
+    def __eq__(self, other):
+        return isinstance(other, Twice) and self.name == other.name
+
 
 class BadLine(BallError):
     """No line of a desk; item is the index of the first item that cannot stand."""
@@ -117,6 +162,12 @@ class BadLine(BallError):
     def __init__(self, item):
         self.item = item
 
+    def __eq__(self, other):
+        return isinstance(other, BadLine) and self.item == other.item
+
 
 class Nothing(BallError):
     """Nothing that can be taken back."""
+
+    def __eq__(self, other):
+        return isinstance(other, Nothing)
