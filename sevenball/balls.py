@@ -1,13 +1,11 @@
 """Balls of cones: words apart, tops, and the cut of a cone to as many balls as there are tops."""
 
 from sevenball.checks import LETTERS, is_within, undoing
+from sevenball.cone_rows import cone_rows
 from sevenball.errors import BadNumber, BadPiece, BadWord, TooMany
 from sevenball.letter_rows import joined, none_begins_another, undone
-from sevenball.machines import machine_of
-from sevenball.made import cone
-from sevenball.painted import Painted
+from sevenball.painted import painted_of
 from sevenball.pieces import Cut
-from sevenball.standings import one_way, shifted
 from sevenball.words import Word
 
 MOST_APART = 30
@@ -50,7 +48,7 @@ def tops_of(word, count):
         raise BadNumber("count")
     if len(word) > MOST_BELOW:
         raise TooMany("letters", MOST_BELOW)
-    one, other = [letter for letter in "ABC" if letter not in word.letters[-1:].upper()][:2]
+    one, other = [letter for letter in LETTERS[:3] if letter not in word.letters[-1:].upper()][:2]
     return tuple([Word(word.letters + one * at + other) for at in range(count)])
 
 
@@ -66,18 +64,13 @@ def cone_cut(word, tops):
         raise TooMany("letters", MOST_TOP)
     if not are_tops(word, tops):
         raise BadPiece("tops")
-    machines = []
+    ends = []
     turns = []
     for ball, top in enumerate(tops):
         ahead = top.letters[:-1]
-        machines.extend([cone(top), cone(twin(top))])
+        ends.extend([top.letters, twin_letters(top.letters)])
         turns.extend([(Word(), ball), (Word(joined(top.letters, undone(ahead))), ball)])
-    rest = cone(word) - Painted.of(machines).coloured()
-    # What is led by no top stays on ball 0; what comes of it there by the other turn, again and again, stays, too.
-    again = led_again(rest, tops[0].letters)
-    machines[0] = machines[0] | rest | again
-    machines[1] = machines[1] - again
-    return Cut(Painted.of(machines), tuple(turns))
+    return Cut(painted_of(cone_rows(word.letters, ends)), tuple(turns))
 
 
 def are_tops(word, tops):
@@ -87,25 +80,3 @@ def are_tops(word, tops):
     every = [top.letters for top in tops]
     every.extend([twin_letters(top.letters) for top in tops])
     return none_begins_another(every) and all([letters.startswith(word.letters) for letters in every])
-
-
-def led_again(rest, top):
-    """The machine of all s * .. * s * r with at least one s, r of the set rest, all of whose words begin with no top.
-
-    The turn s undoes the last letter of the top behind what stands ahead of it. So these words begin with what
-    stands ahead and the undoing, once or more often; then r stands there without what stands ahead.
-    """
-    ahead = top[:-1]
-    size = len(ahead)
-    again = undoing(top[-1])
-    behind = rest.turned(Word(undone(ahead))).strict
-    dead = size + 2 + len(behind)
-    rows = [(False, one_way(letter, at + 1, dead)) for at, letter in enumerate(ahead + again)]
-    after = shifted(behind, size + 2)
-    lit, nexts = after[0]
-    row = list(nexts)
-    row[LETTERS.index(again)] = size + 1
-    rows.append((lit, tuple(row)))
-    rows.extend(after)
-    rows.append((False, (dead,) * len(LETTERS)))
-    return machine_of(tuple(rows))

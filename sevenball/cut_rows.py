@@ -6,6 +6,7 @@ words that make room for guests; then two for the guests, those that do not begi
 
 from sevenball.checks import LETTERS
 from sevenball.code_rows import turns_of
+from sevenball.letter_rows import tree_of
 from sevenball.row_walks import walked
 from sevenball.standings import led_to, one_way, shifted
 from sevenball.strict_rows import strict_of
@@ -55,7 +56,7 @@ def rooms_of(rows, guests):
     """
     first = [(False, one_way("A", 1, 3))]
     out = list(one_way("A", 1, 3))
-    out[LETTERS.index("B")] = 4
+    out[LETTERS.find("B")] = 4
     out[GUEST_LETTER] = 2
     first.append((False, tuple(out)))
     first.append((False, one_way("b", rows[0][1][GUEST_LETTER] + 4, 3)))
@@ -78,9 +79,11 @@ def with_rooms(block, rooms, colour, other):
 
 def put_under(rows, codes, blocks, guests):
     """The rows by which words go on behind a code in its block; those that begin with no code are guests."""
-    tree, told, ends = tree_of(rows, codes)
-    if 0 in ends:
+    tree, leaves = tree_of(codes)
+    if 0 in leaves:
         return blocks[0]
+    ends = {leaf: index for index, leaf in enumerate(leaves)}
+    told = told_of(rows, tree)
     size = len(tree)
     bases = [size + 2 * len(rows)]
     for block in blocks:
@@ -106,26 +109,15 @@ def put_under(rows, codes, blocks, guests):
     return made
 
 
-def tree_of(rows, codes):
-    """The nodes for the beginnings of codes, what each of them is, and where the codes end.
-
-    A node tells for each letter the node behind it, or None; what it is, is told by its standing in the rows and
-    1 if it begins with b, otherwise 0.
-    """
-    tree = [[None] * len(LETTERS)]
-    told = [(0, 0)]
-    ends = {}
-    for index, code in enumerate(codes):
-        at = 0
-        for letter in code:
-            place = LETTERS.index(letter)
-            if tree[at][place] is None:
-                tree[at][place] = len(tree)
-                tree.append([None] * len(LETTERS))
-                told.append((rows[told[at][0]][1][place], 1 if code.startswith("b") else 0))
-            at = tree[at][place]
-        ends[at] = index
-    return tree, told, ends
+def told_of(rows, tree):
+    """For each node of a tree its standing in the rows, and 1 if it begins with b, otherwise 0."""
+    told = [(0, 0) for _ in tree]
+    for at, nexts in enumerate(tree):
+        standing, late = told[at]
+        for letter, to in enumerate(nexts):
+            if to is not None:
+                told[to] = (rows[standing][1][letter], 1 if at == 0 and letter == GUEST_LETTER else late)
+    return told
 
 
 def met_alone(rows, turns):

@@ -95,3 +95,22 @@ def ascending(rows):
     """The strings in the order of words: shorter ones first."""
     ordered = sorted([str(letters) for letters in rows])
     return sorted(ordered, key=len)
+
+
+def tree_of(rows):
+    """The nodes for the beginnings of some strings of letters, and for each string the node at which it ends.
+
+    A node tells for each letter the node behind it, or None; node 0 is the empty beginning.
+    """
+    tree = [[None for _ in LETTERS]]
+    ends = []
+    for letters in rows:
+        at = 0
+        for letter in letters:
+            place = LETTERS.find(letter)
+            if tree[at][place] is None:
+                tree[at][place] = len(tree)
+                tree.append([None for _ in LETTERS])
+            at = tree[at][place]
+        ends.append(at)
+    return tree, ends

@@ -2,6 +2,7 @@
 
 from sevenball.checks import LETTERS, is_letter, is_within
 from sevenball.errors import BadLetter, BadMachine, BadNumber, BadWord, TooMany
+from sevenball.letter_rows import tree_of
 from sevenball.machines import Machine, machine_of
 from sevenball.standings import one_way, shifted
 from sevenball.words import Word
@@ -39,7 +40,7 @@ def ending(word):
     # another one, it goes on as the next shorter such beginning does.
     rows = [list(ALL_TO_FIRST)]
     for at, letter in enumerate(word.letters):
-        place = LETTERS.index(letter)
+        place = LETTERS.find(letter)
         shorter = rows[at][place]
         rows[at][place] = at + 1
         rows.append(list(rows[shorter]))
@@ -52,19 +53,11 @@ def just_words(words):
         raise BadWord(0)
     if len(words) > MOST_WORDS:
         raise TooMany("words", MOST_WORDS)
-    # Standing 1 is for all that begins none of the words.
-    rows = [[1] * len(LETTERS), [1] * len(LETTERS)]
-    ends = {}
-    for word in words:
-        at = 0
-        for letter in word.letters:
-            place = LETTERS.index(letter)
-            if rows[at][place] == 1:
-                rows[at][place] = len(rows)
-                rows.append([1] * len(LETTERS))
-            at = rows[at][place]
-        ends[at] = True
-    return machine_of(tuple([(at in ends, tuple(row)) for at, row in enumerate(rows)]))
+    tree, ends = tree_of([word.letters for word in words])
+    dead = len(tree)
+    taken = {end: True for end in ends}
+    rows = [(at in taken, tuple([dead if to is None else to for to in nexts])) for at, nexts in enumerate(tree)]
+    return machine_of((*rows, (False, (dead,) * len(LETTERS))))
 
 
 def up_to(many):
@@ -134,7 +127,7 @@ def powers(word):
     if size > 0:
         # Behind the core, once or more often, it can stand again, or the undoing of the coat.
         end = len(coat) + len(core)
-        place = LETTERS.index(core[0])
+        place = LETTERS.find(core[0])
         rows[end] = rows[end][:place] + (len(coat) + 1,) + rows[end][place + 1:]
     return machine_of(tuple([(at in (0, size), row) for at, row in enumerate(rows)]))
 

@@ -134,6 +134,43 @@ class ConeCut(Case):
                 if one.swapcase() != other]
         self.check(Word(), [*wide, *words("D", "CD")], 2)
 
+    def test_colours_by_the_facts(self):
+        # What begins with a top or with another twin than the first one has its colour. Of what begins with the first
+        # twin, what is left when s is undone as often as it can be is asked whether it begins with a top or twin.
+        for word, rows in (
+            ("", ("A",)), ("", ("B", "AB", "ADC")), ("", ("ABAB",)), ("A", ("ABA", "AD")), ("A", ("AAB", "AB", "ACB")),
+            ("AB", ("ABAB", "ABAAB", "ABAC")), ("", ("AB", "aC", "BA", "cd")), ("aB", ("aBBBC", "aBA", "aBBd")),
+        ):
+            self.assertTrue(are_tops(Word(word), words(*rows)))
+            cut = cone_cut(Word(word), words(*rows))
+            ends = [letters for row in rows for letters in (row, row[:-1] + row[-1].swapcase())]
+            ahead, again = rows[0][:-1], ends[1][-1]
+            back = struck(ahead + again.swapcase() + undone(ahead))
+            for at, behind in itertools.product(range(4), SHORT):
+                letters = struck(ahead + again * at + undone(ahead) + word + behind.letters)
+                begun = [index for index, end in enumerate(ends) if letters.startswith(end)]
+                left = letters
+                while left.startswith(ends[1]):
+                    left = struck(back + left)
+                wanted = 0
+                if begun not in ([], [1]):
+                    wanted = begun[0] + 1
+                elif letters.startswith(word):
+                    stays = left.startswith(word) and not any(left.startswith(end) for end in ends)
+                    wanted = 1 if stays else 2
+                self.assertEqual(mark_at(cut.painted.rows, letters), wanted, (word, rows, letters))
+                self.assertEqual(cut.painted.colour_of(Word(letters)), wanted)
+
+    def test_a_hundred_calls_come_within_a_second(self):
+        wide = [Word(one + (other + one) * 19 + "C") for one, other in itertools.permutations("ABab", 2)
+                if one.swapcase() != other] + words("D", "CD", "CCD", "CCCD")
+        far = words(*[letter * 38 + end for letter, end in zip("ABCDabcd", "BCDABCDA")], "AB", "BC", "CD", "DA")
+        for word, tops in (
+            (Word(), [Word("A" * turn + "B") for turn in range(12)]), (Word(), wide), (Word(), far), (Word("ABc"), tops_of(Word("ABc"), 12)),
+            (Word("AB"), [Word("AB" * 20)]), (Word(), [Word("AB" * 20)]), (LONG[:39], [LONG[:40]]),
+        ):
+            self.comes_soon(lambda: [cone_cut(word, tops) for _ in range(100)], 1)
+
     def test_equal_calls(self):
         tops = words("AB", "AAC")
         self.assertEqual(cone_cut(Word("A"), tops), cone_cut(Word("A"), tuple(tops)))
