@@ -2,6 +2,7 @@
 
 from sevenball.errors import BadLetter
 
+# The place of a letter is asked by `find`: Lots keep an attribute `index`, and operators call nothing of its name.
 LETTERS = "ABCDabcd"
 
 

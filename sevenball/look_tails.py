@@ -40,7 +40,7 @@ def shows_beyond(machine, many, value):
     # A turn that strikes out so many first letters has that many fewer to stand ahead of those that are left.
     for at in range(len(value) + 1):
         if at > 0:
-            held = list(led_on_from(rows, held, LETTERS.index(value.letters[at - 1])))
+            held = list(led_on_from(rows, held, LETTERS.find(value.letters[at - 1])))
         held.extend([to for to in range(len(rows)) if away[to] <= many - at])
     return not is_lit(rows, held)
 

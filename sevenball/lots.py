@@ -87,7 +87,7 @@ class Lot:
         spelled = []
         place = 0
         for sign in word.letters:
-            letter = LETTERS.index(sign)
+            letter = LETTERS.find(sign)
             if (place, letter) in signs:
                 spelled.append(signs[(place, letter)])
             place = self.net[place][letter]

@@ -88,7 +88,7 @@ class Machine:
         if not isinstance(quarter, Quarter):
             raise BadTurn("quarter")
         back = ~quarter
-        old = [LETTERS.index(back.letter_to(letter)) for letter in LETTERS]
+        old = [LETTERS.find(back.letter_to(letter)) for letter in LETTERS]
         return machine_of(tuple([(lit, tuple([nexts[at] for at in old])) for lit, nexts in self.rows]))
 
     def __eq__(self, other):
@@ -129,7 +129,7 @@ class Machine:
         layer = [("", 0)]
         for _ in range(many):
             layer = [
-                (letters + letter, self.rows[standing][1][LETTERS.index(letter)])
+                (letters + letter, self.rows[standing][1][LETTERS.find(letter)])
                 for letters, standing in layer for letter in followers(letters)
             ]
         for letters, standing in layer:

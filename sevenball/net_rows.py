@@ -18,7 +18,7 @@ def rings_of(words):
         at = 0
         for place, letter in enumerate(letters):
             to = 0 if place + 1 == len(letters) else many
-            edges.append((at, LETTERS.index(letter), to))
+            edges.append((at, LETTERS.find(letter), to))
             if to > 0:
                 many += 1
             at = to
@@ -36,7 +36,7 @@ def edges_of(net, first):
 def folded(many, edges):
     """The net that comes of so many places and of edges, if places are taken as one to which one letter leads."""
     heads = list(range(many))
-    rows = [[None] * len(LETTERS) for _ in range(many)]
+    rows = [[None for _ in LETTERS] for _ in range(many)]
     waiting = list(edges)
     while waiting:
         one, letter, other = waiting.pop()
@@ -71,16 +71,21 @@ def head_in(heads, place):
 def core_of(rows, start):
     """The rows without the places, but the start, from which fewer than two letters lead on."""
     left = [list(row) for row in rows]
-    loose = [at for at, row in enumerate(rows) if at != start and row.count(None) >= len(LETTERS) - 1]
+    loose = [at for at, row in enumerate(rows) if at != start and leading_on(row) <= 1]
     while loose:
         at = loose.pop()
         for letter, to in enumerate(list(left[at])):
             if to is not None:
                 left[at][letter] = None
                 left[to][BARRED[letter]] = None
-                if to != start and left[to].count(None) == len(LETTERS) - 1:
+                if to != start and leading_on(left[to]) == 1:
                     loose.append(to)
     return left
+
+
+def leading_on(row):
+    """How many letters lead on from a place."""
+    return len([to for to in row if to is not None])
 
 
 def numbered(rows, start):
@@ -123,7 +128,7 @@ def led_along(net, letters):
     """The last place to which a beginning of letters leads, and how many letters it has."""
     place = 0
     for at, letter in enumerate(letters):
-        to = net[place][LETTERS.index(letter)]
+        to = net[place][LETTERS.find(letter)]
         if to is None:
             return place, at
         place = to
@@ -174,13 +179,13 @@ def kept_net(net, letters):
     """The net of a finite index with the words of another one, in which letters lead to another place than 0."""
     place, size = led_along(net, letters)
     many = len(net) + len(letters) - size
-    rows = [[None] * len(LETTERS) for _ in range(many)]
+    rows = [[None for _ in LETTERS] for _ in range(many)]
     for at, row in enumerate(net):
         for letter, to in enumerate(row):
             rows[at][letter] = to
     for at in range(size, len(letters)):
         to = len(net) + at - size
-        letter = LETTERS.index(letters[at])
+        letter = LETTERS.find(letters[at])
         rows[place][letter] = to
         rows[to][BARRED[letter]] = place
         place = to
@@ -190,4 +195,4 @@ def kept_net(net, letters):
         for at, to in zip(begins, ends):
             rows[at][letter] = to
             rows[to][BARRED[letter]] = at
-    return numbered(rows, 0)
+    return numbered([tuple(row) for row in rows], 0)

@@ -114,12 +114,12 @@ def beginnings(rows, letters, first, base):
     size = len(letters)
     back = [0]
     for letter in undone(letters):
-        back.append(rows[back[-1]][1][LETTERS.index(letter)])
+        back.append(rows[back[-1]][1][LETTERS.find(letter)])
     made = []
     for at, letter in enumerate(letters):
         mark, nexts = rows[back[size - at]]
         row = [to + base for to in nexts]
-        row[LETTERS.index(letter)] = first + at + 1 if at + 1 < size else base
+        row[LETTERS.find(letter)] = first + at + 1 if at + 1 < size else base
         made.append((mark, tuple(row)))
     return made
 

@@ -42,7 +42,7 @@ def led_to(rows, letters):
 def led_behind(rows, standing, letters):
     """The number of the standing that letters lead to from one."""
     for letter in letters:
-        standing = rows[standing][1][LETTERS.index(letter)]
+        standing = rows[standing][1][LETTERS.find(letter)]
     return standing
 
 

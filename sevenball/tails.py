@@ -42,7 +42,7 @@ def is_tail(machine, word):
     # In a strict machine a word behind one that it does not fit leads nowhere, so all standings may stand ahead.
     held = every_standing(machine.strict)
     for letter in word.letters:
-        held = led_on_from(machine.strict, held, LETTERS.index(letter))
+        held = led_on_from(machine.strict, held, LETTERS.find(letter))
     return is_lit(machine.strict, held)
 
 
@@ -217,7 +217,7 @@ def lead_letters(rows, letters):
         following = {}
         # A copy is gone over, as behind the loop both names mean one dict.
         for at in list(begun):
-            following.setdefault(rows[at][1][LETTERS.index(letter)], begun[at])
+            following.setdefault(rows[at][1][LETTERS.find(letter)], begun[at])
         begun = following
     for at in begun:
         if rows[at][0]:

@@ -117,9 +117,9 @@ def counts_of(rows, colour, letters, most):
     for at, (mark, nexts) in enumerate(ahead):
         row = list(nexts)
         if at == len(letters) - 1:
-            row[LETTERS.index(letters[at])] = len(rows) + at + 1
+            row[LETTERS.find(letters[at])] = len(rows) + at + 1
         if at > 0:
-            row[BARRED[LETTERS.index(letters[at - 1])]] = gone
+            row[BARRED[LETTERS.find(letters[at - 1])]] = gone
         stacked.append((mark, row))
     counts = [1 if mark == colour else 0 for mark, _ in stacked]
     found = []

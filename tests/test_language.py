@@ -2,11 +2,13 @@
 
 import ast
 import builtins
-import pathlib
+import io
 import re
+import tokenize
 import unittest
 
-PACKAGE = pathlib.Path(__file__).parent.parent / "sevenball"
+from tests.looks import MODIFIERS, PACKAGE, assigned_in, defined_in, files, properties_in, trees
+
 LIBRARY = {
     "heapq": {"heappush", "heappop", "heapify", "heapreplace", "heappushpop"},
     "math": {"gcd", "lcm", "isqrt", "comb", "perm", "factorial"},
@@ -18,146 +20,26 @@ BUILTINS = set(
     " all divmod pow iter next map ValueError TypeError KeyError IndexError StopIteration ZeroDivisionError"
     " NotImplemented AttributeError property staticmethod classmethod super".split()
 )
+# Words that stand nowhere in a file but in remarks and docstrings; the last three not within longer words either.
 BARRED = re.compile(
-    r"\b(type|typing|typing_extensions|enum|Enum|Generic|Protocol|ABC|namedtuple|NamedTuple|register|mro|elements|open"
-    r"|input|law|eval|exec|globals|locals|vars|dir|id|help|exit|quit|compile)\b"
+    r"\b(typing|typing_extensions|enum|Enum|IntEnum|StrEnum|Flag|IntFlag|Generic|Protocol|ABC|ABCMeta|namedtuple"
+    r"|NamedTuple|TypedDict|TYPE_CHECKING|abstractmethod)\b|dataclass|overload|contextmanager"
+)
+# In a package with `__getitem__`: nowhere, in remarks neither.
+BARRED_EVERYWHERE = re.compile(r"\(type\)|\bMeta\b|metaclass=")
+# Names of nothing, and names that attributes alone may have.
+NAMES_OF_NOTHING = re.compile(
+    r"register|mro|elements|open|input|law|version_info|with_traceback|add_note|(f|tb|co|gi|cr|ag)_[a-z]+"
+)
+NAMES_OF_ATTRIBUTES = re.compile(
+    r"attrgetter|breakpoint|builtins|compile|copyright|credits|delattr|dir|eval|exec|exit|gc|getattr|globals|hasattr|help"
+    r"|id|importlib|license|locals|methodcaller|os|quit|setattr|super|type|vars|sys|__name__"
 )
 OPERATORS = {
     "__lt__", "__le__", "__gt__", "__ge__", "__mul__", "__invert__", "__neg__", "__bool__", "__contains__",
     "__getitem__", "__and__", "__or__", "__sub__", "__xor__", "__init__", "__eq__", "__str__", "__len__", "__iter__",
     "__call__",
 }
-
-
-def files():
-    return sorted(PACKAGE.rglob("*.py"))
-
-
-def trees():
-    return [(path, ast.parse(path.read_text())) for path in files()]
-
-
-def defined_in(tree):
-    names = [node.name for node in tree.body if isinstance(node, (ast.FunctionDef, ast.ClassDef))]
-    return names + [node.targets[0].id for node in tree.body if isinstance(node, ast.Assign)]
-
-
-def properties_in(tree):
-    """For each class the names of its properties, and those of them that have a setter."""
-    for shape in ast.walk(tree):
-        if isinstance(shape, ast.ClassDef):
-            marks = [(node.name, ast.unparse(mark)) for node in shape.body if isinstance(node, ast.FunctionDef)
-                     for mark in node.decorator_list]
-            yield ({name for name, mark in marks if mark == "property"},
-                   {name for name, mark in marks if mark == name + ".setter"})
-
-
-def assigned_in(tree):
-    """The names of all attributes that some row assigns or deletes, also by setattr, with these rows."""
-    for node in ast.walk(tree):
-        if isinstance(node, ast.Attribute) and isinstance(node.ctx, (ast.Store, ast.Del)):
-            yield node.attr, node.lineno
-        if isinstance(node, ast.Call) and ast.unparse(node.func) in ("setattr", "delattr"):
-            yield node.args[1].value, node.lineno
-
-
-def called_in(node):
-    """The names that a function calls, of functions and classes, and of methods, and those of properties it reads."""
-    for part in ast.walk(node):
-        if isinstance(part, ast.Call):
-            yield part.func.id if isinstance(part.func, ast.Name) else getattr(part.func, "attr", "")
-        if isinstance(part, ast.Attribute) and isinstance(part.ctx, ast.Load):
-            yield part.attr
-
-
-def bodies_in(trees_found):
-    """By the name by which it is called each function, method and `__init__`, and the names of those that start runs.
-
-    Operators, `__str__` and their kind, and properties start runs that change nothing.
-    """
-    bodies, starts = {}, []
-    for tree in trees_found:
-        for node in tree.body:
-            if isinstance(node, ast.FunctionDef):
-                bodies.setdefault(node.name, []).append(node)
-            if not isinstance(node, ast.ClassDef):
-                continue
-            # A class without an `__init__` calls that of a base class.
-            bodies.setdefault(node.name, []).extend(ast.parse(f"{ast.unparse(base)}()") for base in node.bases)
-            for part in node.body:
-                if not isinstance(part, ast.FunctionDef):
-                    continue
-                marks = [ast.unparse(mark) for mark in part.decorator_list]
-                if part.name == "__init__":
-                    bodies[node.name].append(part)
-                elif part.name.startswith("__") and part.name not in ("__call__", "__iter__"):
-                    starts.append(part)
-                elif "property" in marks:
-                    starts.append(part)
-                    bodies.setdefault(part.name, []).append(part)
-                elif part.name + ".setter" not in marks:
-                    bodies.setdefault(part.name, []).append(part)
-    return bodies, starts
-
-
-def reached_from(bodies, starts):
-    """All bodies that the starts run, by the names that are called alone, whatever class they stand in."""
-    waiting, met = list(starts), []
-    for node in waiting:
-        if not any(node is other for other in met):
-            met.append(node)
-            waiting.extend(body for name in called_in(node) for body in bodies.get(name, []))
-    return met
-
-
-def is_new(value):
-    """Whether a value that is assigned is surely a list or a dict that the function creates."""
-    if isinstance(value, ast.Call):
-        return isinstance(value.func, ast.Name) and value.func.id in ("list", "dict", "sorted")
-    if isinstance(value, ast.BinOp):
-        return is_new(value.left) or (isinstance(value.op, ast.Add) and is_new(value.right))
-    return isinstance(value, (ast.List, ast.Dict, ast.ListComp, ast.DictComp)) or (
-        isinstance(value, ast.Subscript) and isinstance(value.slice, ast.Slice))
-
-
-def changed_from_outside(function):
-    """The rows in which a function changes what it did not create itself as a list, a dict or an object of a class."""
-    known = {}
-    for part in ast.walk(function):
-        if isinstance(part, ast.Assign):
-            for target in part.targets:
-                pairs = [(target, part.value)]
-                if isinstance(target, ast.Tuple):
-                    values = part.value.elts if isinstance(part.value, ast.Tuple) else [None] * len(target.elts)
-                    pairs = list(zip(target.elts, values))
-                for to, value in pairs:
-                    known.setdefault(ast.unparse(to), []).append(value)
-        if isinstance(part, (ast.For, ast.comprehension)):
-            for name in ast.walk(part.target):
-                known.setdefault(ast.unparse(name), []).append(None)
-    for part in ast.walk(function):
-        held = None
-        if isinstance(part, ast.Subscript) and isinstance(part.ctx, (ast.Store, ast.Del)):
-            held = part.value
-        if isinstance(part, ast.Call) and isinstance(part.func, ast.Attribute) and part.func.attr in MODIFIERS:
-            held = part.func.value
-        if held is not None:
-            # Also `found.setdefault(k, []).append(x)`, and items of what it created.
-            while isinstance(held, (ast.Subscript, ast.Call)):
-                held = held.value if isinstance(held, ast.Subscript) else getattr(held.func, "value", held.func)
-            values = known.get(ast.unparse(held), [])
-            if values == [] or not all(value is not None and is_new(value) for value in values):
-                yield part.lineno
-        if isinstance(part, ast.Attribute) and isinstance(part.ctx, ast.Store) and function.name != "__init__":
-            values = known.get(ast.unparse(part.value), [])
-            made = [value for value in values if isinstance(value, ast.Call) and ast.unparse(value.func)[:1].isupper()]
-            kept = any(isinstance(row, ast.If) and ast.unparse(row.test) == ast.unparse(part) + " is None" for row in function.body)
-            if not kept and (values == [] or len(made) < len(values)):
-                yield part.lineno
-
-
-MODIFIERS = {"append", "clear", "extend", "insert", "pop", "remove", "reverse", "setdefault", "update", "sort", "add",
-             "discard", "appendleft", "popleft", "extendleft", "rotate"}
 
 
 def heads_of(node):
@@ -219,41 +101,54 @@ def loops_that_change_what_they_go_over(tree):
                     yield loop.lineno
 
 
+def without_remarks(text):
+    """The text of a file with blanks in the place of its remarks and docstrings."""
+    spans = [(token.start, token.end) for token in tokenize.generate_tokens(io.StringIO(text).readline)
+             if token.type == tokenize.COMMENT]
+    # Rows have ASCII signs alone, so the offsets of both are counted alike.
+    for node in ast.walk(ast.parse(text)):
+        if isinstance(node, (ast.Module, ast.ClassDef, ast.FunctionDef)) and ast.get_docstring(node) is not None:
+            told = node.body[0].value
+            spans.append(((told.lineno, told.col_offset), (told.end_lineno, told.end_col_offset)))
+    lines = text.split("\n")
+    for (row, first), (end, last) in spans:
+        for at in range(row, end + 1):
+            line = lines[at - 1]
+            begin, stop = first if at == row else 0, last if at == end else len(line)
+            lines[at - 1] = line[:begin] + " " * (stop - begin) + line[stop:]
+    return "\n".join(lines)
+
+
+def names_in(tree):
+    """All names that stand in a file, each with whether an attribute or a keyword has it."""
+    for node in ast.walk(tree):
+        if isinstance(node, ast.Name):
+            yield node.id, False
+        elif isinstance(node, ast.arg):
+            yield node.arg, False
+        elif isinstance(node, ast.alias):
+            yield from ((name, False) for name in (node.name, node.asname or node.name))
+        elif isinstance(node, ast.Attribute):
+            yield node.attr, True
+        elif isinstance(node, ast.keyword) and node.arg is not None:
+            yield node.arg, True
+        elif isinstance(getattr(node, "name", None), str):
+            yield node.name, False
+
+
+def barred_in(text):
+    """The words and the names in the text of a file that stand in none."""
+    found = [match.group() for match in BARRED.finditer(without_remarks(text))]
+    found.extend(match.group() for match in BARRED_EVERYWHERE.finditer(text))
+    for name, is_attribute in names_in(ast.parse(text)):
+        if NAMES_OF_NOTHING.fullmatch(name) or name == "type":
+            found.append(name)
+        elif NAMES_OF_ATTRIBUTES.fullmatch(name) and not is_attribute:
+            found.append(name)
+    return found
+
+
 class Language(unittest.TestCase):
-    def test_what_operators_and_properties_call_assigns_no_name_with_a_setter(self):
-        every = [tree for path, tree in trees()]
-        barred = {name for tree in every for properties, setters in properties_in(tree) for name in setters}
-        self.assertIn("word", barred)
-        bodies, starts = bodies_in(every)
-        met = reached_from(bodies, starts)
-        self.assertGreater(len(met), 60)
-        for node in met:
-            for name, row in assigned_in(node):
-                self.assertNotIn(name, barred, (getattr(node, "name", ""), row))
-
-    def test_operators_and_properties_change_nothing_but_what_they_created(self):
-        for node in reached_from(*bodies_in([tree for path, tree in trees()])):
-            if isinstance(node, ast.FunctionDef):
-                self.assertEqual(list(changed_from_outside(node)), [], node.name)
-
-    def test_the_look_at_changes_sees_what_it_should(self):
-        for rows, wanted in (
-            ("xs.append(1)", [2]), ("ys = []\n ys.append(1)", []), ("ys = xs\n ys[0] = 1", [3]), ("ys = list(xs)\n ys[0][1] = 1", []),
-            ("self.x = 1", [2]), ("box = Box(1)\n box.x = 1", []), ("box = made(1)\n box.x = 1", [3]), ("for y in xs:\n  y.pop()", [3]),
-            ("ys = {}\n ys.setdefault(1, []).append(2)", []), ("if self._x is None:\n  self._x = 1\n return self._x", []),
-        ):
-            tree = ast.parse("def f(self, xs):\n " + rows)
-            self.assertEqual(list(changed_from_outside(tree.body[0])), wanted, rows)
-
-    def test_the_look_at_what_is_called_sees_what_it_should(self):
-        tree = ast.parse(
-            "class Box:\n def __init__(self):\n  self.word = 1\n def __mul__(self, other):\n  return made(other)\n"
-            " def free(self):\n  self.word = 2\n @property\n def size(self):\n  return self.inner.told()\n"
-            " def told(self):\n  self.held = 3\nclass Lid(Box):\n pass\ndef made(x):\n return Lid()\n"
-        )
-        met = reached_from(*bodies_in([tree]))
-        self.assertEqual(sorted(name for node in met for name, row in assigned_in(node)), ["held", "word"])
-
     def test_no_loop_changes_what_it_goes_over(self):
         for path, tree in trees():
             self.assertEqual(list(loops_that_change_what_they_go_over(tree)), [], path)
@@ -364,6 +259,24 @@ class Language(unittest.TestCase):
                     self.assertNotIn(name, barred, path)
                     self.assertFalse(hasattr(builtins, name), (path, name))
 
+    def test_words_that_stand_nowhere(self):
+        for path in files():
+            self.assertEqual(barred_in(path.read_text()), [], path)
+
+    def test_the_look_at_words_sees_what_it_should(self):
+        for text, wanted in (
+            ('for k in "ABC":\n pass', ["ABC"]), ('k = "ABCD"\nj = "A B C"', []), ('"""ABC."""\nk = 1  # ABC', []),
+            ('def f():\n """Enum\n\n ABC."""\n return "an enum"', ["enum"]), ("def f(x):\n '''ABC.'''\n 'ABC'", ["ABC"]),
+            ('class C:\n """ABC"""\n k = "# ABC"', ["ABC"]), ("k = f'{n} ABC'", ["ABC"]), ("k = 'a.ABC'", ["ABC"]),
+            ("def ABC():\n pass", ["ABC"]), ("k = 'overloaded'", ["overload"]), ("k = 'type'  # types", []),
+            ("b.type = 1", ["type"]), ("b.id = b.vars", []), ("id = 1", ["id"]), ("def f(dir):\n pass", ["dir"]),
+            ("b.open()", ["open"]), ("f(law=1)", ["law"]), ("b.f_back", ["f_back"]), ("k = 'open'", []),
+            ("k = 1  # (type)", ["(type)"]), ("k = 'Meta'", ["Meta"]), ("k = 'Metal'", []),
+            ("try:\n pass\nexcept E as os:\n pass", ["os"]), ("def help():\n pass", ["help"]),
+            ("class C:\n def mro(self):\n  pass", ["mro"]), ("from a import quit", ["quit", "quit"]),
+        ):
+            self.assertEqual(barred_in(text), wanted, text)
+
     def test_words_and_statements(self):
         barred = (ast.AsyncFunctionDef, ast.Await, ast.Div)
         for path, tree in trees():
@@ -371,8 +284,6 @@ class Language(unittest.TestCase):
                 self.assertNotIsInstance(node, barred, path)
                 if isinstance(node, ast.Name) and hasattr(builtins, node.id):
                     self.assertIn(node.id, BUILTINS, path)
-                if isinstance(node, ast.Name):
-                    self.assertIsNone(BARRED.fullmatch(node.id), (path, node.id))
                 if isinstance(node, ast.Constant):
                     self.assertNotIsInstance(node.value, (float, complex, bytes), path)
 
